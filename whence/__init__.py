@@ -1,0 +1,1 @@
+"""Whence: marks through questions."""
