@@ -64,7 +64,7 @@ def bits_of(names, numbers):
 # other one comes.
 def least_bits(sets):
     kept = {}
-    for one in sorted(set(sets)):
+    for one in sorted(sets):
         if not has_within(kept, one):
             kept.setdefault(one.bit_length(), []).append(one)
     least = []
