@@ -180,6 +180,17 @@ class Form(unittest.TestCase):
                 self.assertIn(node.id, OWN_NAMES, place)
                 self.assertIsInstance(node.ctx, ast.Load, place)
 
+    def test_no_local_is_called_like_what_its_file_draws_or_defines(self):
+        for name in files():
+            taken = [part.name for node in nodes_of(name, ast.ImportFrom) for part in node.names]
+            taken += [node.name for node in nodes_of(name, ast.ClassDef)]
+            taken += [node.name for node in ast.parse(text_of(name)).body if isinstance(node, ast.FunctionDef)]
+            for node in nodes_of(name, ast.arg):
+                self.assertNotIn(node.arg, taken, f"{name}:{node.lineno}")
+            for node in nodes_of(name, ast.Name):
+                if isinstance(node.ctx, ast.Store):
+                    self.assertNotIn(node.id, taken, f"{name}:{node.lineno}")
+
     def test_methods_called(self):
         own = [node.name for node, place in self.each(ast.FunctionDef)]
         for node, place in self.each(ast.Call):

@@ -1,64 +1,12 @@
 import copy
-import itertools
 import unittest
 
-from tests.helper import GREAT, PLAIN, Shapes
+from tests.helper import A, B, C, PLAIN, SEERS, WAYS, Shapes, filled, joined_slowly, put_slowly, told_of
 from whence.errors import NoColumn, NoFit, NoMark, NoRow, WhenceError
 from whence.picks import passes
-from whence.reasons import Reasons
-from whence.sums import Sums, bare, worth
+from whence.sums import Sums, worth
 from whence.tables import called, joined, kept, make_table, mark_of, picked, together
-from whence.ways import Costs, Counts, Lows, Pairs, Rounds, Seers, Truths
-
-A, B, C = bare("a"), bare("b"), bare("c")
-SEERS = Seers(["p", "q", "r"])
-
-# Ways with marks that are not nought, and some by which plus or times of two such come to nought.
-WAYS = [
-    (Truths(), [True]),
-    (Counts(), [1, 2, GREAT]),
-    (Rounds(2), [1]),
-    (Rounds(4), [1, 2, 3]),
-    (Rounds(6), [2, 3, 4]),
-    (Costs(), [0, 4, 7]),
-    (SEERS, [("p",), ("q",), ("p", "r")]),
-    (Lows(2), [(0,), (1, 1), (2, 5)]),
-    (Pairs(Rounds(2), SEERS), [(1, ("p",)), (0, ("q",)), (1, ())]),
-    (Sums(), [A, B, Sums().plus(A, C)]),
-    (Reasons(), [(("a",),), (("b",), ("c",)), ((),)]),
-]
-VALUES = (1, "1", 2)
-
-
-def filled(way, marks, head, skip):
-    """A table with some of all rows over a few values."""
-    pairs = []
-    for k, row in enumerate(itertools.product(VALUES, repeat=len(head))):
-        if k % skip != 1:
-            pairs.append((row, marks[(k + skip) % len(marks)]))
-    return (head, dict(pairs))
-
-
-def put_slowly(way, pairs):
-    rows = {}
-    for row, mark in pairs:
-        rows[row] = way.plus(rows.get(row, way.nought), mark)
-    return {row: mark for row, mark in rows.items() if mark != way.nought}
-
-
-def told_of(head, row, columns):
-    return tuple([row[head.index(column)] for column in columns])
-
-
-def joined_slowly(way, one, other):
-    shared = [column for column in one[0] if column in other[0]]
-    more = [column for column in other[0] if column not in one[0]]
-    pairs = []
-    for row, mark in one[1].items():
-        for partner, there in other[1].items():
-            if told_of(one[0], row, shared) == told_of(other[0], partner, shared):
-                pairs.append((row + told_of(other[0], partner, more), way.times(mark, there)))
-    return (one[0] + tuple(more), put_slowly(way, pairs))
+from whence.ways import Costs, Counts, Pairs, Rounds, Seers, Truths
 
 
 class MakeTable(unittest.TestCase, Shapes):

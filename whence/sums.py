@@ -54,10 +54,14 @@ def times_over(way, many, mark):
 
 
 def worth(some, way, marks):
+    check_names(some, marks)
+    return plus_all(way, [times_over(way, many, product_worth(product, way, marks)) for product, many in some])
+
+
+def check_names(some, marks):
     for name in names_in(some):
         if name not in marks:
             raise NoName(f"no mark is told for {name!r}")
-    return plus_all(way, [times_over(way, many, product_worth(product, way, marks)) for product, many in some])
 
 
 def product_worth(product, way, marks):
