@@ -155,6 +155,21 @@ R, S, T, E, Z = [("table", name) for name in "RSTEZ"]
 FIRST = {"join": 1, "put": 1, "call": 3, "ring": 3}
 
 
+def table(name):
+    return ("table", name)
+
+
+def ring(times, start, step, name="n"):
+    return ("ring", name, times, start, step)
+
+
+def words_of(question):
+    told = [question[0]]
+    for part in question[FIRST.get(question[0], 2):]:
+        told.extend(words_of(part))
+    return told
+
+
 def sample_store():
     store = Store()
     for table in HEADS:

@@ -2,8 +2,8 @@ import copy
 import random
 import unittest
 
-from tests.helper import (HEADS, SEERS, WAYS, E, R, S, Shapes, T, Z, sample_store, sample_tables, slowly,
-                          some_question)
+from tests.helper import (HEADS, SEERS, WAYS, E, R, S, Shapes, Z, ring, sample_store, sample_tables, slowly,
+                          some_question, table)
 from whence.answers import answer, work
 from whence.errors import NoColumn, NoFit, NoTable, Twice
 from whence.questions import degree, head_of
@@ -15,14 +15,6 @@ IS_A = ("is", "a", 1)
 EDGES = (("x", "y"), {(1, 2): 1, (2, 3): 1, (3, 4): 1, (1, 3): 1, (4, 4): 1})
 G = ("table", "G")
 ON = ("keep", ("x", "y"), ("join", ("call", "y", "z", ("table", "n")), ("call", "x", "z", G)))
-
-
-def ring(times, start, step, name="n"):
-    return ("ring", name, times, start, step)
-
-
-def table(name):
-    return ("table", name)
 
 
 class Never:
@@ -124,8 +116,8 @@ class Rings(unittest.TestCase, Shapes):
     def test_least_costs(self):
         tables = {"G": (("x", "y"), {(1, 2): 1, (2, 3): 2, (1, 3): 9, (3, 1): 1})}
         self.same(answer(Costs(), ring(0, G, ON), tables), tables["G"])
-        self.same(answer(Costs(), ring(1, G, ON), tables),
-                  (("x", "y"), {(1, 2): 1, (2, 3): 2, (1, 3): 3, (3, 1): 1, (2, 1): 3, (1, 1): 10, (3, 2): 2, (3, 3): 10}))
+        wanted = {(1, 2): 1, (2, 3): 2, (1, 3): 3, (3, 1): 1, (2, 1): 3, (1, 1): 10, (3, 2): 2, (3, 3): 10}
+        self.same(answer(Costs(), ring(1, G, ON), tables), (("x", "y"), wanted))
         self.same(answer(Costs(), ring(2, G, ON), tables)[1][(1, 1)], 4)
 
     def test_round_0_and_round_1(self):

@@ -2,7 +2,7 @@ import copy
 import random
 import unittest
 
-from tests.helper import FIRST, HEADS, E, R, S, Shapes, T, Z, some_question, unrolled_slowly
+from tests.helper import FIRST, HEADS, E, R, S, Shapes, T, Z, ring, some_question, table, unrolled_slowly
 from whence.errors import NoColumn, NoFit, NoTable, Twice
 from whence.questions import degree, head_of, tables_of
 
@@ -17,14 +17,6 @@ WRONG = [
     (("ring", "R", 1, R, R), Twice),
     (("ring", "n", 0, R, S), NoFit),
 ]
-
-
-def ring(times, start, step, name="n"):
-    return ("ring", name, times, start, step)
-
-
-def table(name):
-    return ("table", name)
 
 
 def degree_slowly(question):
