@@ -3,9 +3,12 @@ hold the program against, and a strict look at what is told."""
 
 import copy
 import itertools
+import random
 
 from whence.errors import WhenceError
 from whence.picks import passes
+from whence.places import heads_at, part_at, places, with_part
+from whence.questions import degree, head_of
 from whence.reasons import Reasons
 from whence.stores import Store
 from whence.sums import Sums, bare
@@ -144,6 +147,22 @@ class Shapes:
             self.same(way.times(c, plus), way.plus(way.times(c, a), way.times(c, b)))
 
 
+class Counted(Counts):
+    """Counts that tell how often they are asked."""
+
+    def __init__(self):
+        Counts.__init__(self)
+        self.asked = 0
+
+    def plus(self, a, b):
+        self.asked += 1
+        return Counts.plus(self, a, b)
+
+    def times(self, a, b):
+        self.asked += 1
+        return Counts.times(self, a, b)
+
+
 # Five tables; one of no columns, one of no rows, rows that stand by several names.
 HEADS = {"R": ("a", "b"), "S": ("b", "c"), "T": ("c", "a"), "E": ("b",), "Z": ()}
 ROWS = [("R", "r1", (1, 1)), ("R", "r2", (1, "1")), ("R", "r3", (2, 1)), ("R", "r4", (1, 1)), ("S", "s1", (1, 2)),
@@ -275,6 +294,29 @@ def fitting(rng, heads, deep, head):
             more = ("table", homes[-1]) if homes else ("call", "b", column, ("table", "E"))
             one, has = ("join", one, ("keep", (column,), more)), has + (column,)
     return ("keep", tuple(rng.sample(head, len(head))), one)
+
+
+def some_questions(seed, many, most, deep=5):
+    """So many questions of at most that degree, for the sample's heads."""
+    rng = random.Random(seed)
+    told = []
+    while len(told) < many:
+        question = some_question(rng, HEADS, 1 + len(told) % deep)[0]
+        if degree(question) <= most:
+            told.append(question)
+    return told
+
+
+def more_picks(rng, question, heads):
+    """The same with picks at some of its places, each over a part that has columns."""
+    for place in sorted(places(question), key=len, reverse=True):
+        part = part_at(question, place)
+        head = head_of(part, heads_at(question, place, heads))
+        if head and rng.randrange(2):
+            for k in range(1 + rng.randrange(3)):
+                part = ("pick", some_test(rng, head, 3), part)
+            question = with_part(question, place, part)
+    return question
 
 
 def rebuilt(question, each):

@@ -1,27 +1,11 @@
 import unittest
 
-from tests.helper import GREAT, HUGE, PLAIN, Shapes
+from tests.helper import GREAT, HUGE, PLAIN, Counted, Shapes
 from whence.errors import NoName, WhenceError
 from whence.sums import Sums, bare, names_in, struck, times_over, worth
 from whence.ways import Costs, Counts, Lows, Pairs, Rounds, Seers, Truths
 
 A, B, C = bare("a"), bare("b"), bare("c")
-
-
-class Counted(Counts):
-    """Counts that tell how often they are asked."""
-
-    def __init__(self):
-        Counts.__init__(self)
-        self.asked = 0
-
-    def plus(self, a, b):
-        self.asked += 1
-        return Counts.plus(self, a, b)
-
-    def times(self, a, b):
-        self.asked += 1
-        return Counts.times(self, a, b)
 
 
 class SumsAre(unittest.TestCase, Shapes):

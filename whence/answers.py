@@ -26,24 +26,27 @@ def reckoned(way, question, tables):
             return (tables[part[1]], 0)
         if part[0] == "ring":
             return ring_reckoned(way, part, tables)
-        return reckoned_by_word(way, part, below)
+        sides = [one for one, many in below]
+        return (answer_by_word(way, part, sides), sum([many for one, many in below]) + work_by_word(part, sides))
     return told_from_parts(question, tell)
 
 
-def reckoned_by_word(way, part, below):
+# Of a word that has parts, but no ring: what becomes of the parts' answers.
+def answer_by_word(way, part, below):
     word = part[0]
-    one = below[0][0]
     if word == "pick":
-        return (picked(one, part[1]), below[0][1])
+        return picked(below[0], part[1])
     if word == "keep":
-        return (kept(way, one, part[1]), below[0][1])
+        return kept(way, below[0], part[1])
     if word == "call":
-        return (called(one, part[1], part[2]), below[0][1])
-    other = below[1][0]
-    many = below[0][1] + below[1][1]
-    if word == "put":
-        return (together(way, one, other), many)
-    return (joined(way, one, other), many + len(one[1]) * len(other[1]))
+        return called(below[0], part[1], part[2])
+    if word == "join":
+        return joined(way, below[0], below[1])
+    return together(way, below[0], below[1])
+
+
+def work_by_word(part, below):
+    return len(below[0][1]) * len(below[1][1]) if part[0] == "join" else 0
 
 
 def ring_reckoned(way, ring, tables):

@@ -21,25 +21,36 @@ def parts_but_of_rings(question):
     return [] if question[0] == "ring" else parts_of(question)
 
 
-# The parts from the left, each whole, then the question itself. No def calls itself for a part here, since the
-# parts may be more within one another than calls can be.
-def in_order(question):
-    ahead = [question]
+# Each with how many are straight below it: what is below goes ahead, from the left. No def calls itself for what is
+# below, since that may be more within one another than calls can be.
+def laid_out(top, below_of):
+    ahead = [top]
     order = []
     while len(ahead) > 0:
-        part = ahead.pop()
-        order.append(part)
-        ahead.extend(parts_but_of_rings(part))
+        here = ahead.pop()
+        below = below_of(here)
+        order.append((here, len(below)))
+        ahead.extend(below)
     return list(reversed(order))
 
 
-# tell(part, below) is asked in that order, `below` being what was told of the part's own parts.
-def told_from_parts(question, tell):
+# tell(here, below) is asked in that order, `below` being what was told of those straight below.
+def told_through(top, below_of, tell):
     told = []
-    for part in in_order(question):
-        first = len(told) - len(parts_but_of_rings(part))
-        told = told[:first] + [tell(part, told[first:])]
+    for here, many in laid_out(top, below_of):
+        below = [told.pop() for left in range(many)]
+        below.reverse()
+        told.append(tell(here, below))
     return told[0]
+
+
+# The parts from the left, each whole, then the question itself.
+def in_order(question):
+    return [part for part, many in laid_out(question, parts_but_of_rings)]
+
+
+def told_from_parts(question, tell):
+    return told_through(question, parts_but_of_rings, tell)
 
 
 def head_of(question, heads):
