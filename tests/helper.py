@@ -189,13 +189,18 @@ def words_of(question):
     return told
 
 
-def sample_store():
+def store_of(rows):
+    """A store of the sample's tables, with these rows."""
     store = Store()
-    for table in HEADS:
-        store.make(table, HEADS[table])
-    for table, name, row in ROWS:
-        store.put(table, name, row)
+    for name in HEADS:
+        store.make(name, HEADS[name])
+    for row in rows:
+        store.put(*row)
     return store
+
+
+def sample_store():
+    return store_of(ROWS)
 
 
 def all_of(store):

@@ -100,7 +100,8 @@ class Trees(unittest.TestCase, Shapes):
 
     def test_join(self):
         self.told(JOIN, (1, 1, 2), [("join", x("r1"), x("s1")), ("join", x("r4"), x("s1"))])
-        self.told(("join", R, R), (1, 1), [("join", x(one), x(other)) for one in ("r1", "r4") for other in ("r1", "r4")])
+        self.told(("join", R, R), (1, 1), [("join", x("r1"), x("r1")), ("join", x("r1"), x("r4")),
+                                           ("join", x("r4"), x("r1")), ("join", x("r4"), x("r4"))])
         self.told(("join", S, R), (1, 2, 2), [("join", x("s1"), x("r3"))])
         self.told(("join", R, BACK), (1, "1"), [("join", x("r2"), ("keep", x("r2")))])
         self.told(("join", Z, ("keep", (), T)), (), [("join", x(one), ("keep", x(other))) for one in ("z1", "z2")

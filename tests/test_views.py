@@ -2,10 +2,9 @@ import copy
 import random
 import unittest
 
-from tests.helper import HEADS, ROWS, WAYS, E, R, S, Shapes, T, Z, ring, sample_marks, some_questions, table
+from tests.helper import HEADS, ROWS, WAYS, R, S, Shapes, T, Z, ring, sample_marks, some_questions, store_of, table
 from whence.answers import answer
 from whence.errors import NoColumn, NoFit, NoName, NoRow, NoTable, Twice
-from whence.stores import Store
 from whence.sums import Sums, bare
 from whence.ways import Costs, Counts, Truths
 from whence.views import View
@@ -19,13 +18,6 @@ STEP = ("keep", ("b", "a"), ("join", N, S))
 
 def all_of(view):
     return (view.standing(), view.told())
-
-
-def empty_store():
-    store = Store()
-    for name in HEADS:
-        store.make(name, HEADS[name])
-    return store
 
 
 class Told(unittest.TestCase, Shapes):
@@ -97,7 +89,7 @@ class Told(unittest.TestCase, Shapes):
         self.same(view.told(), ((), {}))
 
     def test_rings(self):
-        store, view = empty_store(), View(ring(3, R, STEP), HEADS)
+        store, view = store_of([]), View(ring(3, R, STEP), HEADS)
         for name, row in (("r", (1, 2)), ("s", (2, 3)), ("t", (3, 1))):
             for one in (store.put, view.came):
                 one("R" if name == "r" else "S", name, row)
@@ -109,7 +101,7 @@ class Told(unittest.TestCase, Shapes):
 
     def test_great_tables(self):
         # Sixty rows by one another's side; thirty of them meet thirty.
-        view, store = View(("keep", (), ("join", R, S)), HEADS), empty_store()
+        view, store = View(("keep", (), ("join", R, S)), HEADS), store_of([])
         for k in range(30):
             for one in (store.put, view.came):
                 one("R", f"r{k}", (k, 0))
@@ -129,7 +121,7 @@ class Deeds(unittest.TestCase, Shapes):
     def test_a_row_of_deeds(self):
         rng = random.Random(43)
         for question in some_questions(43, 40, 4):
-            store, view, away = empty_store(), View(question, HEADS), list(ROWS)
+            store, view, away = store_of([]), View(question, HEADS), list(ROWS)
             for k in range(18):
                 if away and rng.randrange(4):
                     deed = away.pop(rng.randrange(len(away)))

@@ -3,15 +3,24 @@
 import random
 import unittest
 
-from tests.helper import HEADS, ROWS, WAYS, Shapes, more_picks, sample_marks, sample_store, some_questions
+from tests.helper import (HEADS, ROWS, WAYS, Shapes, more_picks, sample_marks, sample_store, sample_tables,
+                          some_questions, store_of, table)
 from whence.answers import answer
+from whence.chains import chain_cut, layers_of
+from whence.cuts import shows
+from whence.places import places
 from whence.questions import degree
 from whence.quick import quick
 from whence.rings import unrolled
+from whence.rules import RULES, turned_at
+from whence.stores import Store
+from whence.strikings import strikings
 from whence.sums import Sums
+from whence.tables import mark_of
 from whence.trees import tree_product, trees
 from whence.values import struck_in, valued
 from whence.views import View
+from whence.whys import why, why_not, why_nots, whys
 
 
 class SumsThenMarks(unittest.TestCase, Shapes):
@@ -96,6 +105,21 @@ class Turned(unittest.TestCase, Shapes):
                 self.same(answer(way, flat, tables), wanted, question)
 
 
+    def test_rules_unrolling_and_quick_turning_one_behind_the_other(self):
+        rng = random.Random(11)
+        for k, plain in enumerate(some_questions(11, 60, 3, 4)):
+            question = plain
+            for times in range(6):
+                place = rng.choice(places(question))
+                turns = [turned_at(rule, question, place, HEADS) for rule in RULES]
+                turns = [one for one in turns if one is not None and degree(one) <= 4 and len(places(one)) <= 60]
+                question = rng.choice(turns) if turns else question
+            for told in (question, quick(question, HEADS), unrolled(question), quick(unrolled(question), HEADS)):
+                for way, some in WAYS[k % 3::3]:
+                    tables = sample_tables(way, some)
+                    self.same(answer(way, told, tables), answer(way, plain, tables), plain)
+
+
 class Trees(unittest.TestCase, Shapes):
     def test_the_products_of_all_trees_add_up_to_the_sum(self):
         store = sample_store()
@@ -105,3 +129,78 @@ class Trees(unittest.TestCase, Shapes):
                 for tree in trees(question, store, row):
                     told = Sums().plus(told, ((tree_product(tree), 1),))
                 self.same(told, wanted, question)
+
+
+def comes(question, rows, row):
+    return row in answer(Sums(), question, store_of(rows).named())[1]
+
+
+class Whys(unittest.TestCase, Shapes):
+    def test_a_why_brings_the_row_by_itself_and_none_can_be_left_out(self):
+        store = sample_store()
+        for question in some_questions(12, 60, 4):
+            for row in list(answer(Sums(), question, store.named())[1])[:4]:
+                for told in whys(question, store, row)[:3] + (why(question, store, row),):
+                    alone = [one for one in ROWS if one[1] in told]
+                    self.assertTrue(comes(question, alone, row), question)
+                    for gone in alone:
+                        self.assertFalse(comes(question, [one for one in alone if one != gone], row), question)
+
+    def test_a_why_not_brings_it_out_of_rows_that_might_come(self):
+        rng = random.Random(13)
+        brought = 0
+        for question in some_questions(13, 80, 4):
+            rows = rng.sample(ROWS, len(ROWS))
+            there, stock = rows[:5], rows[5:]
+            for row in list(answer(Sums(), question, sample_store().named())[1])[:3]:
+                told = why_not(question, store_of(there), stock, row)
+                self.assertIn(told, why_nots(question, store_of(there), stock, row))
+                some = [one for one in stock if one[1] in told]
+                self.assertTrue(comes(question, there + some, row), question)
+                for gone in some:
+                    self.assertFalse(comes(question, there + [one for one in some if one != gone], row), question)
+                    brought += 1
+        self.assertGreater(brought, 50)
+
+    def test_strikings_make_the_row_go_and_the_tree_shows_that_no_fewer_do(self):
+        store = sample_store()
+        for question in some_questions(14, 80, 4):
+            for row in list(answer(Sums(), question, store.named())[1])[:3]:
+                names, tree = strikings(question, store, row, 3, [])
+                reasons = whys(question, store, row)
+                if names is None:
+                    self.assertIs(shows(tree, reasons, 3, []), True)
+                    continue
+                self.assertFalse(comes(question, [one for one in ROWS if one[1] not in names], row), question)
+                self.assertIs(shows(tree, reasons, len(names) - 1, []), True)
+
+
+class Chains(unittest.TestCase, Shapes):
+    def test_along_a_chain_of_tables(self):
+        rng = random.Random(15)
+        tables = ["A", "B", "C"]
+        question = ("keep", (), ("join", table("A"), ("join", table("B"), table("C"))))
+        for k in range(60):
+            store, prices = Store(), {}
+            for j, name in enumerate(tables):
+                store.make(name, (f"x{j}", f"x{j + 1}"))
+                for i in range(1 + rng.randrange(5)):
+                    prices[f"{name}{i}"] = rng.choice((0, 1, 1, 2, 7)) if k % 2 else 1
+                    store.put(name, f"{name}{i}", (rng.randrange(3), rng.randrange(3)))
+            price, names, packing = chain_cut(layers_of(store, tables, prices))
+            twin = store.twin()
+            for name in names:
+                twin.strike(name)
+            self.same(answer(Sums(), question, twin.named()), ((), {}))
+            # The ways through are the row's products; a packing of them within the prices shows the price.
+            ways = [tuple(sorted(way)) for many, way in packing]
+            some = mark_of(Sums(), answer(Sums(), question, store.named()), ())
+            products = [product for product, many in some]
+            self.assertLessEqual(set(ways), set(products))
+            self.assertEqual(sum([many for many, way in packing]), price)
+            self.assertEqual(sum([prices[name] for name in names]), price)
+            for name in prices:
+                self.assertLessEqual(sum([many for many, way in packing if name in way]), prices[name])
+            # With a price of one for each, the cheapest are the fewest.
+            if k % 2 == 0 and price <= 4:
+                self.same(len(strikings(question, store, (), 4, [])[0]), price)
